@@ -6,10 +6,13 @@ import (
 
 	"buttery/api"
 	"buttery/frame"
+	"buttery/lined"
 	"buttery/num"
 )
 
 const noreply = "noreply"
+
+const badDelta = "CLIENT_ERROR invalid numeric delta argument"
 
 // draft is a request whose line is being read.
 type draft struct {
@@ -25,7 +28,7 @@ type reading func(word string) (fault string)
 // read reads the words of a line, and tells its first fault.
 func (d *draft) read(words []string) string {
 	if len(words) == 0 || !d.begin(words[0]) {
-		return noCommand
+		return lined.NoCommand
 	}
 	words = words[1:]
 	parts := d.parts(words)
@@ -34,14 +37,11 @@ func (d *draft) read(words []string) string {
 		words = words[:len(parts)]
 	}
 	if len(words) != len(parts) {
-		return noCommand
+		return lined.NoCommand
 	}
 	fault := ""
 	for i, read := range parts {
 		fault = cmp.Or(fault, read(words[i])) // behind a fault, too: the size of the body must be known
-	}
-	if fault == "" && d.size > api.MaxValue {
-		return tooLarge
 	}
 	return fault
 }
@@ -124,12 +124,12 @@ func (d *draft) keys(many int) []reading {
 func (d *draft) storing() []reading {
 	parts := []reading{
 		d.key,
-		decimal(math.MaxUint32, badLine, func(n uint64) { d.cmd.Flags = uint32(n) }),
+		decimal(math.MaxUint32, lined.BadLine, func(n uint64) { d.cmd.Flags = uint32(n) }),
 		d.exp,
-		decimal(math.MaxUint64, badLine, func(n uint64) { d.size, d.sized = n, true }),
+		decimal(math.MaxUint64, lined.BadLine, func(n uint64) { d.size, d.sized = n, true }),
 	}
 	if d.form.Verb == "cas" {
-		parts = append(parts, decimal(math.MaxUint64, badLine, func(n uint64) { d.cmd.CAS = n }))
+		parts = append(parts, decimal(math.MaxUint64, lined.BadLine, func(n uint64) { d.cmd.CAS = n }))
 	}
 	return parts
 }
@@ -146,7 +146,7 @@ func (d *draft) isQuiet(words []string, many int) bool {
 func (d *draft) key(word string) string {
 	d.form.Keys = append(d.form.Keys, word)
 	if !frame.Key(word) || len(d.form.Keys) > api.MaxKeys {
-		return badLine
+		return lined.BadLine
 	}
 	return ""
 }
@@ -154,7 +154,7 @@ func (d *draft) key(word string) string {
 func (d *draft) exp(word string) string {
 	n, is := num.Signed(word)
 	if !is {
-		return badLine
+		return lined.BadLine
 	}
 	d.cmd.Exp = n
 	return ""
