@@ -98,7 +98,7 @@ func (d *draft) takeToken(letter, token string) (is bool) {
 	case "J":
 		d.cmd.Initial, is = num.Decimal(token)
 	case "T":
-		d.cmd.Sets = true
+		d.cmd.Sets = d.verb.op != api.OSet // what an ms stores has its Exp without that
 		d.cmd.Exp, is = num.Signed(token)
 	case "N":
 		d.cmd.Makes = true

@@ -149,6 +149,9 @@ func (k kind) flagOf(letter string) string {
 	return letter
 }
 
+// sets tells whether its T tells more than Exp.
+func (k kind) sets() bool { return k.verb() == "mg" || k.verb() == "md" }
+
 // withFlag is what a line of the kind asks for, behind the flag that flagOf tells of that letter.
 func (k kind) withFlag(letter string) (api.Form, api.Cmd) {
 	f, c := form(k.verb(), "k"), k.cmd
@@ -164,7 +167,7 @@ func (k kind) withFlag(letter string) (api.Form, api.Cmd) {
 	case "F":
 		c.Flags = 7
 	case "T":
-		c.Exp, c.Sets = 5, true
+		c.Exp, c.Sets = 5, k.sets()
 	case "N":
 		c.Exp, c.Makes = 9, true
 	case "C":
@@ -186,7 +189,7 @@ func (k kind) letters() []string { return strings.Split(k.bare+k.tokens, "") }
 // P18.1 to P18.3: the chapter's examples.
 func TestTheExamples(t *testing.T) {
 	wantRequest(t, "mg k t v q", "", quiet(answering(form("mg", "k"), "tv")), mg.cmd)
-	wantRequest(t, "ms k 2 T5", "xy\r\n", form("ms", "k"), api.Cmd{Op: api.OSet, Key: "k", Exp: 5, Sets: true, Value: []byte("xy")})
+	wantRequest(t, "ms k 2 T5", "xy\r\n", form("ms", "k"), api.Cmd{Op: api.OSet, Key: "k", Exp: 5, Value: []byte("xy")})
 	wantReply(t, "mg k t t", again, 0)
 }
 
@@ -312,7 +315,7 @@ func TestManyFlags(t *testing.T) {
 func TestAllFlagsOfAVerb(t *testing.T) {
 	wantRequest(t, "mg aw== b c f k q s t v Oxyz T5 N9", "", api.Form{Verb: "mg", Keys: []string{"aw=="}, Quiet: true, Base64: true, Flags: "bcfkstvO", Tokens: []string{"", "", "", "", "", "", "", "xyz"}}, api.Cmd{Op: api.OMeta, Key: "k", Exp: 9, Sets: true, Makes: true})
 	wantRequest(t, "mg aw== N9 T5 O1 v t s q k f c b", "", api.Form{Verb: "mg", Keys: []string{"aw=="}, Quiet: true, Base64: true, Flags: "Ovtskfcb", Tokens: []string{"1", "", "", "", "", "", "", ""}}, api.Cmd{Op: api.OMeta, Key: "k", Exp: 5, Sets: true, Makes: true})
-	wantRequest(t, "ms aw== 2 b c k q O== F7 T-5 C3 MP", "xy\r\n", api.Form{Verb: "ms", Keys: []string{"aw=="}, Quiet: true, Base64: true, Flags: "bckO", Tokens: []string{"", "", "", "=="}}, api.Cmd{Op: api.OPrepend, Key: "k", Value: []byte("xy"), Flags: 7, Exp: -5, Sets: true, CAS: 3})
+	wantRequest(t, "ms aw== 2 b c k q O== F7 T-5 C3 MP", "xy\r\n", api.Form{Verb: "ms", Keys: []string{"aw=="}, Quiet: true, Base64: true, Flags: "bckO", Tokens: []string{"", "", "", "=="}}, api.Cmd{Op: api.OPrepend, Key: "k", Value: []byte("xy"), Flags: 7, Exp: -5, CAS: 3})
 	wantRequest(t, "md aw== T5 I O\x00\xff q C3 k b", "", api.Form{Verb: "md", Keys: []string{"aw=="}, Quiet: true, Base64: true, Flags: "Okb", Tokens: []string{"\x00\xff", "", ""}}, api.Cmd{Op: api.OStale, Key: "k", Exp: 5, Sets: true, CAS: 3})
 	wantRequest(t, "ma aw== v Ov t MD J6 k c q N9 D4 C3 b", "", api.Form{Verb: "ma", Keys: []string{"aw=="}, Quiet: true, Base64: true, Flags: "vOtkcb", Tokens: []string{"", "v", "", "", "", ""}}, api.Cmd{Op: api.ODecr, Key: "k", Delta: 4, Initial: 6, Exp: 9, Makes: true, CAS: 3})
 }
@@ -458,7 +461,7 @@ func TestTAndN(t *testing.T) {
 			c := k.cmd
 			c.Exp = exp
 			if strings.Contains(k.tokens, "T") {
-				c.Sets = true
+				c.Sets = k.sets()
 				wantRequest(t, k.line+" T"+told, k.body, form(k.verb(), "k"), c)
 				c.Sets = false
 			}
@@ -478,6 +481,18 @@ func TestTAndN(t *testing.T) {
 			}
 		}
 	}
+}
+
+// P18.1: the T of an ms tells Exp alone, whatever the line stores and wherever T stands.
+func TestTheTOfAnMsSetsNothing(t *testing.T) {
+	for mode, op := range map[string]int{"": api.OSet, "MS": api.OSet, "ME": api.OAdd, "MA": api.OAppend, "MP": api.OPrepend, "MR": api.OReplace} {
+		for told, exp := range map[string]int{"0": 0, "5": 5, "-5": -5, "1099511627776": 1 << 40} {
+			want := api.Cmd{Op: op, Key: "k", Exp: exp, Value: []byte("xy")}
+			wantRequest(t, "ms k 2 T"+told+" "+mode, "xy\r\n", form("ms", "k"), want)
+			wantRequest(t, "ms k 2 "+mode+" T"+told, "xy\r\n", form("ms", "k"), want)
+		}
+	}
+	wantRequest(t, "ms ! 0 T0", "\r\n", form("ms", "!"), api.Cmd{Op: api.OSet, Key: "!"})
 }
 
 // P18.1: of both the last one tells the Exp.
@@ -629,7 +644,7 @@ func TestBytes(t *testing.T) {
 		for mode, op := range map[string]int{"": api.OSet, " MS": api.OSet, " ME": api.OAdd, " MA": api.OAppend, " MP": api.OPrepend, " MR": api.OReplace} {
 			wantRequest(t, "ms k "+word+mode, value+"\r\n", form("ms", "k"), api.Cmd{Op: op, Key: "k", Value: []byte(value)})
 		}
-		wantRequest(t, "ms k "+word+" q c F7 T5 C4", value+"\r\n", quiet(answering(form("ms", "k"), "c")), api.Cmd{Op: api.OSet, Key: "k", Flags: 7, Exp: 5, Sets: true, CAS: 4, Value: []byte(value)})
+		wantRequest(t, "ms k "+word+" q c F7 T5 C4", value+"\r\n", quiet(answering(form("ms", "k"), "c")), api.Cmd{Op: api.OSet, Key: "k", Flags: 7, Exp: 5, CAS: 4, Value: []byte(value)})
 	}
 	for word, skip := range map[string]int{"1001": 1003, "1002": 1004, "01001": 1003, "4096": 4098, "1073741823": 1<<30 + 1, "1073741824": 1<<30 + 2, noughts(30) + "1073741824": 1<<30 + 2, "1073741825": 0, "2147483648": 0, "4294967296": 0, "4294967297": 0, "9223372036854775807": 0, "9223372036854775808": 0, "18446744073709551615": 0} {
 		wantReply(t, "ms k "+word, large, skip)

@@ -82,7 +82,7 @@ func plainToken(verb, flag string, c *api.Cmd) bool {
 		}
 		return n != nil
 	case 'T':
-		c.Sets = true
+		c.Sets = verb == "mg" || verb == "md"
 		return exp()
 	case 'N':
 		c.Makes = true
